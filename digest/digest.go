@@ -1,6 +1,9 @@
 // Package digest: H, and the ids that are made of it: see DOC.md.
 package digest
 
+// Size is how many bytes a number of 64 bits has, and so an id.
+const Size = 8
+
 const (
 	start uint64 = 14695981039346656037
 	prime uint64 = 1099511628211
@@ -17,7 +20,7 @@ func H(s string) uint64 {
 
 // Bytes tells the eight bytes of a number, the highest first.
 func Bytes(n uint64) string {
-	var b [8]byte
+	var b [Size]byte
 	for i := range b {
 		b[i] = byte(n >> (56 - 8*i))
 	}

@@ -1,10 +1,12 @@
 package wire
 
-import "coinage/api"
+import (
+	"coinage/api"
+	"coinage/digest"
+)
 
 // The bounds that package api does not name.
 const (
-	idSize   = 8
 	maxIndex = 255
 	maxNonce = 65535
 	maxTag   = 65535
@@ -26,7 +28,7 @@ func within(n, low, high int) bool {
 // blockFits holds the lengths of lists against their bounds before it walks
 // them, so that no long list is gone through.
 func blockFits(b api.Block) bool {
-	if len(b.Parent) != idSize || !within(b.Bits, 0, api.MaxBits) || !within(b.Nonce, 0, maxNonce) {
+	if len(b.Parent) != digest.Size || !within(b.Bits, 0, api.MaxBits) || !within(b.Nonce, 0, maxNonce) {
 		return false
 	}
 	if !within(len(b.Txs), 1, api.MaxTxs) {
@@ -59,7 +61,7 @@ func txFits(t api.Tx, first bool) bool {
 }
 
 func inFits(in api.In) bool {
-	return len(in.Coin.Tx) == idSize && within(in.Coin.Index, 0, maxIndex) && len(in.Key) <= api.MaxCode
+	return len(in.Coin.Tx) == digest.Size && within(in.Coin.Index, 0, maxIndex) && len(in.Key) <= api.MaxCode
 }
 
 func outFits(out api.Out) bool {

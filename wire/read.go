@@ -4,6 +4,7 @@ import (
 	"strings"
 
 	"coinage/api"
+	"coinage/digest"
 )
 
 // reader takes a block off the front of its bytes. What is cut short or beyond
@@ -49,7 +50,7 @@ func (r *reader) code() string {
 
 func (r *reader) block() api.Block {
 	var b api.Block
-	b.Parent = r.text(idSize)
+	b.Parent = r.text(digest.Size)
 	b.Bits = r.number(1, 0, api.MaxBits)
 	b.Nonce = r.number(2, 0, maxNonce)
 	b.Txs = make([]api.Tx, r.number(1, 1, api.MaxTxs))
@@ -76,7 +77,7 @@ func (r *reader) tx(first bool) api.Tx {
 
 func (r *reader) in() api.In {
 	var in api.In
-	in.Coin.Tx = r.text(idSize)
+	in.Coin.Tx = r.text(digest.Size)
 	in.Coin.Index = r.number(1, 0, maxIndex)
 	in.Key = r.code()
 	return in
